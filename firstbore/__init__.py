@@ -1,0 +1,1 @@
+"""Firstbore: who bore it first, told by meetings and looks."""

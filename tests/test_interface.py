@@ -1,0 +1,63 @@
+"""The section "The interface": files, names, parameter names, and where each thing is defined."""
+
+import ast
+import inspect
+import pathlib
+import unittest
+
+from firstbore import errors, plans, worlds
+from firstbore.plans import Plan
+from samples import example
+
+PACKAGE = pathlib.Path(plans.__file__).parent
+
+
+class Interface(unittest.TestCase):
+    def check_parameters(self, called, *names):
+        self.assertEqual(tuple(inspect.signature(called).parameters), names)
+
+    def test_package_is_empty_but_for_a_docstring(self):
+        body = ast.parse((PACKAGE / "__init__.py").read_text()).body
+        self.assertEqual(len(body), 1)
+        self.assertIsInstance(body[0], ast.Expr)
+        self.assertIsInstance(body[0].value.value, str)
+
+    def test_errors(self):
+        for name, parameters in [
+            ("InvalidPlan", ["word"]), ("InvalidText", ["at"]), ("InvalidWorld", ["at"]), ("InvalidLooks", ["at"]),
+            ("Refused", ["at"]), ("NoName", ["name"]),
+        ]:
+            self.assertEqual(getattr(errors, name).__module__, "firstbore.errors")
+            self.check_parameters(getattr(errors, name), *parameters)
+        for name in ("BoreError", "InvalidCommand", "NoWorld"):
+            self.assertEqual(getattr(errors, name).__module__, "firstbore.errors")
+
+    def test_worlds(self):
+        for function, parameters in [
+            (worlds.since, ["plan", "world"]),
+            (worlds.able, ["plan", "world", "day"]),
+            (worlds.shows, ["plan", "world", "day"]),
+            (worlds.chain, ["plan", "world", "name"]),
+        ]:
+            self.assertEqual(function.__module__, "firstbore.worlds")
+            self.check_parameters(function, *parameters)
+
+    def test_plan(self):
+        self.assertEqual(Plan.__module__, "firstbore.plans")
+        for name in ("__init__", "place", "without", "further", "read", "names", "__len__", "__eq__", "__str__"):
+            self.assertIn(name, vars(Plan))
+        self.assertIsInstance(vars(Plan)["names"], property)
+        self.assertIsInstance(vars(Plan)["read"], classmethod)
+        self.check_parameters(Plan, "people", "meetings")
+        self.check_parameters(example().place, "name")
+        self.check_parameters(example().without, "ats")
+        self.check_parameters(example().further, "meetings")
+        self.check_parameters(Plan.read, "text")
+        self.assertEqual(inspect.signature(Plan).parameters["meetings"].default, ())
+
+    def test_attributes_are_set_at_once(self):
+        self.assertEqual(sorted(vars(example())), ["meetings", "people"])
+
+
+if __name__ == "__main__":
+    unittest.main()
