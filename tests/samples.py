@@ -1,5 +1,6 @@
-"""Plans and values that several tests use."""
+"""Plans, looks and values that several tests use, and what the words of the document make of them."""
 
+import itertools
 import random
 
 from firstbore import errors
@@ -18,6 +19,9 @@ LINES = [
 PEOPLE = (("ann", 2, 3, (0, 9)), ("bob", 1, 1, None), ("cyd", 2, 2, (4, 9)), ("dan", 1, 0, None))
 MEETINGS = ((3, "ann", "bob"), (5, "bob", "cyd"), (6, "cyd", "dan"), (8, "bob", "dan"))
 NAMES = ("ann", "bob", "cyd", "dan")
+LOOKS = ((9, "dan", True),)
+MORE = LOOKS + ((6, "ann", False),)
+NONE_FITS = LOOKS + ((9, "dan", False),)
 
 
 def example():
@@ -77,3 +81,98 @@ def cases(many, seed=1):
     rng = random.Random(seed)
     plans = [random_plan(rng) for number in range(many)]
     return [(plan, random_world(rng, plan)) for plan in plans]
+
+
+def expected_since(plan, world):
+    """Follow the words of [7], meeting by meeting in any order, until nothing changes any more."""
+    days = dict(world)
+    waits = {name: wait for name, wait, show, span in plan.people}
+    is_changed = True
+    while is_changed:
+        is_changed = False
+        for day, a, b in plan.meetings:
+            for giver, taker in ((a, b), (b, a)):
+                if giver in days and days[giver] + waits[giver] <= day and days.get(taker, day + 1) > day:
+                    days[taker] = day
+                    is_changed = True
+    return tuple(days.get(name) for name in plan.names)
+
+
+def expected_broken(plan, looks, world):
+    """Follow the words of [9]."""
+    days = dict(zip(plan.names, expected_since(plan, world)))
+    shows = {name: show for name, wait, show, span in plan.people}
+    ats = []
+    for at, (day, name, is_shown) in enumerate(looks):
+        if (days[name] is not None and days[name] + shows[name] <= day) != is_shown:
+            ats.append(at)
+    return tuple(ats)
+
+
+def worlds_of_days(plan, days_of):
+    """Return all worlds whose days are among those that a dict has for each name with a span."""
+    choices = []
+    for name, wait, show, span in plan.people:
+        if span is not None:
+            choices.append([None] + [(name, day) for day in days_of[name]])
+    return [tuple(pair for pair in pairs if pair is not None) for pairs in itertools.product(*choices)]
+
+
+def all_worlds(plan):
+    """Return all worlds of a plan."""
+    spans = {person[0]: person[3] for person in plan.people if person[3] is not None}
+    return worlds_of_days(plan, {name: range(first, last + 1) for name, (first, last) in spans.items()})
+
+
+def tried_plan(rng):
+    """Return a small plan whose worlds can be tried one by one: at most three spans of some days."""
+    names = ["ann", "bob", "cyd", "dan", "eve"][:rng.randint(1, 5)]
+    rng.shuffle(names)
+    firsts = rng.sample(names, min(len(names), rng.randint(0, 3)))
+    people = []
+    for name in names:
+        first = rng.randint(0, 7)
+        span = (first, first + rng.randint(0, 4)) if name in firsts else None
+        people.append((name, rng.choice([1, 1, 2, 3]), rng.randint(0, 3), span))
+    meetings = []
+    for number in range(rng.randint(0, 9) if len(names) > 1 else 0):
+        a, b = rng.sample(names, 2)
+        meetings.append((rng.randint(0, 10), a, b))
+    return Plan(people, meetings)
+
+
+def tried_looks(rng, plan, worlds, most_day=14):
+    """Return some looks, mostly such that one of the worlds fits."""
+    world = rng.choice(worlds)
+    looks = []
+    for number in range(rng.choice([0, 1, 1, 2, 2, 3, 4, 6])):
+        day, name, is_shown = rng.randint(0, most_day), rng.choice(plan.names), rng.random() < 0.5
+        if rng.random() < 0.9 and expected_broken(plan, [(day, name, is_shown)], world):
+            is_shown = not is_shown
+        looks.append((day, name, is_shown))
+    return looks
+
+
+def tried_cases(many, seed):
+    """Return (plan, worlds, looks) for many small plans, the same ones each time; the worlds are all there are."""
+    rng = random.Random(seed)
+    rows = []
+    for number in range(many):
+        plan = tried_plan(rng)
+        worlds = all_worlds(plan)
+        rows = rows + [(plan, worlds, tried_looks(rng, plan, worlds)) for turn in range(3)]
+    return rows
+
+
+def fitting_days(plan, worlds, looks):
+    """Return (world, days since when each person bears it) for each of the worlds that fits."""
+    return [(world, expected_since(plan, world)) for world in worlds if not expected_broken(plan, looks, world)]
+
+
+def moved(plan, looks, by):
+    """Return the plan and the looks with all days later by so many."""
+    people = []
+    for name, wait, show, span in plan.people:
+        people.append((name, wait, show, span and (span[0] + by, span[1] + by)))
+    meetings = [(day + by, a, b) for day, a, b in plan.meetings]
+    return Plan(people, meetings), [(day + by, name, is_shown) for day, name, is_shown in looks]

@@ -4,6 +4,9 @@ import doctest
 import pathlib
 import unittest
 
+from firstbore.deciding import first_ones, greatest, since_possibly, since_surely, status
+from firstbore.looks import broken, fits
+from firstbore.papers import paper, paper_holds
 from firstbore.plans import Plan
 from firstbore.worlds import able, chain, since
 from samples import LINES, MEETINGS, PEOPLE
@@ -14,10 +17,38 @@ class Examples(unittest.TestCase):
         lines = ["person ann 2 3 0 9", "person bob 1 1 -", "person cyd 2 2 4 9", "person dan 1 0 -"]
         lines = lines + ["meet 3 ann bob", "meet 5 bob cyd", "meet 6 cyd dan", "meet 8 bob dan"]
         self.plan = Plan.read("\n".join(lines))
+        self.looks = [(9, "dan", True)]
+        self.more = self.looks + [(6, "ann", False)]
 
     def test_plan(self):
         self.assertEqual((self.plan.people, self.plan.meetings), (PEOPLE, MEETINGS))
         self.assertEqual(str(self.plan), "\n".join(LINES))
+
+    def test_deciding(self):
+        plan, looks, more = self.plan, self.looks, self.more
+        told = (
+            greatest(plan, looks), since_possibly(plan, looks, "dan"), since_surely(plan, looks, "dan"),
+            first_ones(plan, looks),
+        )
+        self.assertEqual(told, ((("ann", 0), ("cyd", 4)), 6, 8, ((), ("ann", "cyd"))))
+        told = (
+            greatest(plan, more), since_surely(plan, more, "dan"), first_ones(plan, more),
+            status(plan, more, "cyd", 5),
+        )
+        self.assertEqual(told, ((("ann", 4), ("cyd", 4)), 6, (("cyd",), ("ann", "cyd")), "not"))
+
+    def test_looks(self):
+        plan, more = self.plan, self.more
+        told = fits(plan, more, [("cyd", 4)]), broken(plan, more, (("ann", 1),)), broken(plan, more, [("cyd", 5)])
+        self.assertEqual(told, (True, (1,), (0,)))
+
+    def test_papers(self):
+        plan, looks = self.plan, self.looks
+        told = (
+            paper(plan, looks, "dan", 8), paper(plan, looks, "dan", 7),
+            paper_holds(plan, looks, "dan", 8, ((2, 5), 0)),
+        )
+        self.assertEqual(told, (((2, 5), 0), None, True))
 
     def test_worlds(self):
         plan = self.plan

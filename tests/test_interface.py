@@ -5,7 +5,7 @@ import inspect
 import pathlib
 import unittest
 
-from firstbore import errors, plans, worlds
+from firstbore import deciding, errors, looks, papers, plans, worlds
 from firstbore.plans import Plan
 from samples import example
 
@@ -32,15 +32,39 @@ class Interface(unittest.TestCase):
         for name in ("BoreError", "InvalidCommand", "NoWorld"):
             self.assertEqual(getattr(errors, name).__module__, "firstbore.errors")
 
+    def check_functions(self, module, *rows):
+        for name, *parameters in rows:
+            # Defined in this very file, not imported into it.
+            self.assertEqual(getattr(module, name).__module__, module.__name__)
+            self.check_parameters(getattr(module, name), *parameters)
+
     def test_worlds(self):
-        for function, parameters in [
-            (worlds.since, ["plan", "world"]),
-            (worlds.able, ["plan", "world", "day"]),
-            (worlds.shows, ["plan", "world", "day"]),
-            (worlds.chain, ["plan", "world", "name"]),
-        ]:
-            self.assertEqual(function.__module__, "firstbore.worlds")
-            self.check_parameters(function, *parameters)
+        self.check_functions(
+            worlds,
+            ("since", "plan", "world"),
+            ("able", "plan", "world", "day"),
+            ("shows", "plan", "world", "day"),
+            ("chain", "plan", "world", "name"),
+        )
+
+    def test_looks(self):
+        self.check_functions(looks, ("fits", "plan", "looks", "world"), ("broken", "plan", "looks", "world"))
+
+    def test_deciding(self):
+        self.check_functions(
+            deciding,
+            ("possible", "plan", "looks"),
+            ("greatest", "plan", "looks"),
+            ("since_possibly", "plan", "looks", "name"),
+            ("since_surely", "plan", "looks", "name"),
+            ("status", "plan", "looks", "name", "day"),
+            ("first_ones", "plan", "looks"),
+        )
+
+    def test_papers(self):
+        self.check_functions(
+            papers, ("paper", "plan", "looks", "name", "day"), ("paper_holds", "plan", "looks", "name", "day", "value")
+        )
 
     def test_plan(self):
         self.assertEqual(Plan.__module__, "firstbore.plans")

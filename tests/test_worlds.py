@@ -7,24 +7,9 @@ import unittest
 from firstbore.errors import InvalidWorld
 from firstbore.plans import Plan
 from firstbore.worlds import able, chain, shows, since
-from samples import NAMES, cases, example, nested, no_names, no_sequences
+from samples import NAMES, cases, example, expected_since, nested, no_names, no_sequences
 
 FAR = 10**18
-
-
-def expected_since(plan, world):
-    """Follow the words of [7], meeting by meeting in any order, until nothing changes any more."""
-    days = dict(world)
-    waits = {name: wait for name, wait, show, span in plan.people}
-    is_changed = True
-    while is_changed:
-        is_changed = False
-        for day, a, b in plan.meetings:
-            for giver, taker in ((a, b), (b, a)):
-                if giver in days and days[giver] + waits[giver] <= day and days.get(taker, day + 1) > day:
-                    days[taker] = day
-                    is_changed = True
-    return tuple(days.get(name) for name in plan.names)
 
 
 def pair_plan(wait, *meetings, show=0):
