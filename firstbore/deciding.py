@@ -1,85 +1,105 @@
 """What follows for all worlds that fit some looks."""
 
 from firstbore.errors import NoWorld
-from firstbore.looks import check_looks, fits
-from firstbore.starts import barred_by_day, barred_by_looks, later_ones, spans_of, world_behind
-from firstbore.worlds import since
+from firstbore.looks import check_looks, unshown
+from firstbore.passages import spread
+from firstbore.starts import barred_by_looks, barred_further, own_behind, spread_behind
+
+
+def is_fitted(plan, looks, barred):
+    """Tell whether some world fits looks that bar these days."""
+    # If any world fits, the one of all whom the looks that show nothing allow does.
+    return unshown(plan, looks, spread_behind(plan, barred)) == []
 
 
 def possible(plan, looks):
     """Tell whether some world fits."""
     check_looks(plan, looks)
-    # If any world fits, the one of all whom the looks that show nothing allow does.
-    return fits(plan, looks, world_behind(plan, barred_by_looks(plan, looks)))
+    return is_fitted(plan, looks, barred_by_looks(plan, looks))
 
 
-def check_possible(plan, looks):
-    """Raise InvalidLooks unless any value is looks, and NoWorld unless some world fits them."""
-    if not possible(plan, looks):
+def barred_if_possible(plan, looks):
+    """Return the days that looks bar; InvalidLooks unless any value is looks, NoWorld unless some world fits."""
+    check_looks(plan, looks)
+    barred = barred_by_looks(plan, looks)
+    if not is_fitted(plan, looks, barred):
         raise NoWorld()
+    return barred
 
 
 def greatest(plan, looks):
     """Return the world of all who can be a first one, each since the earliest day."""
-    check_possible(plan, looks)
-    return world_behind(plan, barred_by_looks(plan, looks))
+    own = own_behind(plan, barred_if_possible(plan, looks))
+    return tuple(sorted([(name, day) for name, day in zip(plan.names, own) if day is not None]))
 
 
 def since_possibly(plan, looks, name):
     """Return the earliest day since when a person bears it in some world that fits, None for never."""
     place = plan.place(name)
-    return since(plan, greatest(plan, looks))[place]
+    return spread_behind(plan, barred_if_possible(plan, looks))[place]
 
 
-def bears_surely(plan, looks, name, day):
-    """Tell whether a person bears it by a day in all worlds that fit; looks that some world fits."""
-    by_day = barred_by_day(plan, plan.place(name), day)
-    barred = later_ones(barred_by_looks(plan, looks), by_day)
+def bears_surely(plan, looks, barred, place, day):
+    """Tell whether a person bears it by a day in all worlds that fit; the days are those barred by the looks."""
     # Without all that leads to it by then, only a look that shows something can break.
-    return not fits(plan, looks, world_behind(plan, barred))
+    return unshown(plan, looks, spread_behind(plan, barred_further(plan, barred, place, day))) != []
 
 
 def last_day(plan):
     """Return a day behind which nobody begins to bear it."""
     meeting_days = [day for day, a, b in plan.meetings]
-    span_days = [last for name, first, last in spans_of(plan)]
+    span_days = [person[3][1] for person in plan.people if person[3] is not None]
     return max(meeting_days + span_days, default=0)
 
 
 def since_surely(plan, looks, name):
     """Return the earliest day by which a person bears it in all worlds that fit, None if there is none."""
-    plan.place(name)
-    check_possible(plan, looks)
+    place = plan.place(name)
+    barred = barred_if_possible(plan, looks)
     low = 0
     high = last_day(plan)
-    if not bears_surely(plan, looks, name, high):
+    if not bears_surely(plan, looks, barred, place, high):
         return None
     # Halving, as a span may have too many days to try each: who bears it by a day bears it by later ones.
     while low < high:
         middle = (low + high) // 2
-        if bears_surely(plan, looks, name, middle):
+        if bears_surely(plan, looks, barred, place, middle):
             high = middle
         else:
             low = middle + 1
     return low
 
 
+def outcomes(plan, looks, barred, place, day):
+    """Return, ascending, what can be in worlds that fit (False, True): that a person bears it by a day."""
+    start = spread_behind(plan, barred)[place]
+    if start is None or start > day:
+        return (False,)
+    if bears_surely(plan, looks, barred, place, day):
+        return (True,)
+    return (False, True)
+
+
 def status(plan, looks, name, day):
     """Return "able", "not" or "open": able on a day in all worlds that fit, in none, in some only."""
-    start = since_possibly(plan, looks, name)
-    latest = day - plan.people[plan.place(name)][1]
-    if start is None or start > latest:
-        return "not"
-    if bears_surely(plan, looks, name, latest):
+    place = plan.place(name)
+    told = outcomes(plan, looks, barred_if_possible(plan, looks), place, day - plan.people[place][1])
+    if len(told) == 2:
+        return "open"
+    if told[0]:
         return "able"
-    return "open"
+    return "not"
+
+
+def is_missed(plan, looks, own, place):
+    """Tell whether a look does not hold any more if the person at this place is no first one."""
+    others = [None if at == place else day for at, day in enumerate(own)]
+    return unshown(plan, looks, spread(plan.passages, others)) != []
 
 
 def first_ones(plan, looks):
     """Return the lots of those who are a first one in all worlds that fit, and in some."""
-    world = greatest(plan, looks)
-    always = []
-    for name, day in world:
-        if not fits(plan, looks, [pair for pair in world if pair[0] != name]):
-            always.append(name)
-    return tuple(always), tuple([name for name, day in world])
+    own = own_behind(plan, barred_if_possible(plan, looks))
+    some = [place for place, day in enumerate(own) if day is not None]
+    always = [place for place in some if is_missed(plan, looks, own, place)]
+    return tuple(sorted([plan.names[place] for place in always])), tuple(sorted([plan.names[place] for place in some]))

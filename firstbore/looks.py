@@ -2,6 +2,7 @@
 
 from firstbore.errors import InvalidLooks
 from firstbore.kinds import is_number, is_sequence, is_tuple_of
+from firstbore.plans import is_name_of
 from firstbore.worlds import since
 
 
@@ -10,7 +11,7 @@ def is_look(plan, value):
     if not is_tuple_of(value, 3):
         return False
     day, name, is_shown = value
-    return is_number(day) and name in plan.names and isinstance(is_shown, bool)
+    return is_number(day) and is_name_of(plan, name) and isinstance(is_shown, bool)
 
 
 def check_looks(plan, looks):
@@ -22,25 +23,29 @@ def check_looks(plan, looks):
             raise InvalidLooks(at)
 
 
-def latest_shown_start(plan, look):
-    """Return the latest day since when the person of a look shows it on the day of the look."""
+def shown_by(plan, look):
+    """Return the place of the person of a look, and the latest day since when this person shows it then."""
     day, name, is_shown = look
-    return day - plan.people[plan.place(name)][2]
+    place = plan.place(name)
+    return place, day - plan.people[place][2]
 
 
-def holds(plan, look, starts):
-    """Tell whether a look holds where people bear it since these days, None for never."""
-    day, name, is_shown = look
-    start = starts[plan.place(name)]
-    is_showing = start is not None and start <= latest_shown_start(plan, look)
-    return is_showing == is_shown
+def is_showing(plan, look, starts):
+    """Tell whether the person of a look shows it then, if people bear it since these days, None for never."""
+    place, latest = shown_by(plan, look)
+    return starts[place] is not None and starts[place] <= latest
+
+
+def unshown(plan, looks, starts):
+    """Return the numbers of the looks that show something, but do not hold, if people bear it since these days."""
+    return [at for at, look in enumerate(looks) if look[2] and not is_showing(plan, look, starts)]
 
 
 def broken(plan, looks, world):
     """Return the numbers of the looks that do not hold in a world."""
     check_looks(plan, looks)
     starts = since(plan, world)
-    return tuple([at for at, look in enumerate(looks) if not holds(plan, look, starts)])
+    return tuple([at for at, look in enumerate(looks) if is_showing(plan, look, starts) != look[2]])
 
 
 def fits(plan, looks, world):

@@ -1,23 +1,43 @@
 """Papers: why somebody surely bears it by a day, so that anybody can check it."""
 
-from firstbore.deciding import check_possible
+from firstbore.deciding import barred_if_possible
 from firstbore.kinds import is_integer, is_number, is_tuple_of
-from firstbore.looks import broken, check_looks
-from firstbore.starts import barred_by_day, barred_by_looks, days_behind, later_ones, spans_of, world_since
+from firstbore.looks import broken, check_looks, unshown
+from firstbore.passages import spread
+from firstbore.starts import barred_further, own_behind
 from firstbore.worlds import since
+
+
+def spans_of(plan):
+    """Return (name, first day, last day) of each person with a span, in the order of people."""
+    return [(name, span[0], span[1]) for name, wait, show, span in plan.people if span is not None]
+
+
+def days_of(plan, own):
+    """Return the days of a paper that stand for these own days."""
+    days = []
+    for person, day in zip(plan.people, own):
+        span = person[3]
+        if span is not None:
+            days.append(span[1] + 1 if day is None else day)
+    return tuple(days)
+
+
+def world_of(plan, days):
+    """Return the world of those for whom the day of a paper is not beyond the span."""
+    return [(name, day) for (name, first, last), day in zip(spans_of(plan), days) if day <= last]
 
 
 def paper(plan, looks, name, day):
     """Return some right paper for a name and a day, None if there is none."""
     place = plan.place(name)
-    check_possible(plan, looks)
-    barred = later_ones(barred_by_looks(plan, looks), barred_by_day(plan, place, day))
+    barred = barred_further(plan, barred_if_possible(plan, looks), place, day)
     # The latest days that can be right: where any paper is right, these leave its look unheld too.
-    days = days_behind(plan, barred)
-    missed = broken(plan, looks, world_since(plan, days))
-    if missed == ():
+    own = own_behind(plan, barred)
+    missed = unshown(plan, looks, spread(plan.passages, own))
+    if missed == []:
         return None
-    return days, missed[0]
+    return days_of(plan, own), missed[0]
 
 
 def are_paper_days(plan, value):
@@ -60,4 +80,4 @@ def paper_holds(plan, looks, name, day, value):
     for (other, first, last), start in zip(spans_of(plan), days):
         if start != first and not is_ruled_out(plan, looks, name, day, (other, start - 1)):
             return False
-    return looks[at][2] and at in broken(plan, looks, world_since(plan, days))
+    return looks[at][2] and at in broken(plan, looks, world_of(plan, days))

@@ -2,6 +2,7 @@
 
 from firstbore.errors import InvalidPlan, NoName
 from firstbore.kinds import is_name, is_number, is_sequence, is_tuple_of
+from firstbore.passages import passages_of
 from firstbore.planlines import meeting_line, person_line, read_lines
 
 
@@ -52,6 +53,11 @@ def names_of(people):
     return tuple([person[0] for person in people])
 
 
+def is_name_of(plan, value):
+    """Tell whether any value is a name of a person of a plan."""
+    return isinstance(value, str) and value in plan.places
+
+
 class Plan:
     """People with their waits, shows and spans, and their meetings; it never changes."""
 
@@ -62,6 +68,9 @@ class Plan:
             raise InvalidPlan("meetings")
         self.people = tuple(people)
         self.meetings = tuple(meetings)
+        # Kept for what is asked again and again: the number of each name, and how it passes at the meetings.
+        self.places = {person[0]: place for place, person in enumerate(self.people)}
+        self.passages = passages_of(self.people, self.places, self.meetings)
 
     @property
     def names(self):
@@ -70,9 +79,9 @@ class Plan:
 
     def place(self, name):
         """Return the number of the person with this name."""
-        if name not in self.names:
+        if not is_name_of(self, name):
             raise NoName(name)
-        return self.names.index(name)
+        return self.places[name]
 
     def without(self, ats):
         """Return the plan without the meetings with these numbers."""

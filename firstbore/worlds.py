@@ -2,11 +2,13 @@
 
 from firstbore.errors import InvalidWorld
 from firstbore.kinds import is_number, is_sequence, is_tuple_of
+from firstbore.passages import chain_behind, spread
+from firstbore.plans import is_name_of
 
 
 def is_first_one(plan, value):
     """Tell whether any value is a pair of a name and a day of the span of this person."""
-    if not is_tuple_of(value, 2) or value[0] not in plan.names:
+    if not is_tuple_of(value, 2) or not is_name_of(plan, value[0]):
         return False
     name, day = value
     span = plan.people[plan.place(name)][3]
@@ -24,30 +26,12 @@ def check_world(plan, world):
         names.append(pair[0])
 
 
-def is_able(plan, place, start, day):
-    """Tell whether a person who bears it since a start (None: never) is able on a day."""
-    return start is not None and start + plan.people[place][1] <= day
-
-
-def spread(plan, world):
-    """Return two lists for the people: since when they bear it, and (giver, meeting) of what brought it.
-
-    In the first one None stands for never, in the second one for an own day or never.
-    """
-    starts = [None] * len(plan.people)
-    sources = [None] * len(plan.people)
+def own_days(plan, world):
+    """Return the own day of each person in a world, None for those who are no first one."""
+    days = [None for person in plan.people]
     for name, day in world:
-        starts[plan.place(name)] = day
-    # Meetings of one day can stand in any order: each wait is at least 1, so none follows on another.
-    for at in sorted(range(len(plan.meetings)), key=lambda number: plan.meetings[number][0]):
-        day, a, b = plan.meetings[at]
-        first, second = plan.place(a), plan.place(b)
-        for giver, taker in ((first, second), (second, first)):
-            is_sooner = starts[taker] is None or day < starts[taker]
-            if is_sooner and is_able(plan, giver, starts[giver], day):
-                starts[taker] = day
-                sources[taker] = (giver, at)
-    return starts, sources
+        days[plan.place(name)] = day
+    return days
 
 
 def lot_behind(plan, world, delays, day):
@@ -62,7 +46,7 @@ def lot_behind(plan, world, delays, day):
 def since(plan, world):
     """Return the day since when each person bears it, None for never."""
     check_world(plan, world)
-    return tuple(spread(plan, world)[0])
+    return tuple(spread(plan.passages, own_days(plan, world)))
 
 
 def able(plan, world, day):
@@ -79,11 +63,8 @@ def chain(plan, world, name):
     """Return the meetings by which it came to a person first, () for the own day, None for never."""
     place = plan.place(name)
     check_world(plan, world)
-    starts, sources = spread(plan, world)
+    own = own_days(plan, world)
+    starts = spread(plan.passages, own)
     if starts[place] is None:
         return None
-    ats = []
-    while sources[place] is not None:
-        place, at = sources[place]
-        ats.append(at)
-    return tuple(reversed(ats))
+    return chain_behind(plan.passages, own, starts, place)

@@ -22,6 +22,7 @@ NAMES = ("ann", "bob", "cyd", "dan")
 LOOKS = ((9, "dan", True),)
 MORE = LOOKS + ((6, "ann", False),)
 NONE_FITS = LOOKS + ((9, "dan", False),)
+FAR = 10**18
 
 
 def example():
@@ -164,9 +165,80 @@ def tried_cases(many, seed):
     return rows
 
 
+def brought_looks(rng, plan, world):
+    """Return looks that show it, about when they first do, at some of those to whom a meeting brings it in a world."""
+    looks = []
+    for (name, wait, show, span), start in zip(plan.people, expected_since(plan, world)):
+        if start is not None and dict(world).get(name) != start and rng.random() < 0.7:
+            looks.append((start + show + rng.randint(0, 1), name, True))
+    return looks
+
+
+def telling_cases(many, seed):
+    """Return more such rows, of plans with more meetings and looks that ask for more."""
+    rng = random.Random(seed)
+    rows = []
+    while len(rows) < many:
+        plan = tried_plan(rng)
+        worlds = all_worlds(plan)
+        if len(plan.meetings) >= 4 and len(worlds) >= 10:
+            world = rng.choice([world for world in worlds if world != ()])
+            negative = [look for look in tried_looks(rng, plan, [world]) if not look[2]]
+            rows.append((plan, worlds, brought_looks(rng, plan, world) + negative[:2]))
+    return rows
+
+
 def fitting_days(plan, worlds, looks):
     """Return (world, days since when each person bears it) for each of the worlds that fits."""
     return [(world, expected_since(plan, world)) for world in worlds if not expected_broken(plan, looks, world)]
+
+
+def wide_case(rng):
+    """Return a plan with two spans of very many days, looks that mostly some world fits, and two days."""
+    step = FAR // 12
+    names = ["ann", "bob", "cyd", "dan"]
+    rng.shuffle(names)
+    people = []
+    for number, name in enumerate(names):
+        span = rng.choice([(0, FAR), (step, FAR), (0, 7 * step), (3 * step, 3 * step + 5)]) if number < 2 else None
+        people.append((name, rng.choice([1, 2, step, 2 * step + 1]), rng.choice([0, 1, step, 3 * step]), span))
+    meetings = []
+    for number in range(rng.randint(1, 5)):
+        a, b = rng.sample(names, 2)
+        meetings.append((rng.randint(1, 12) * step + rng.randint(-2, 2), a, b))
+    plan = Plan(people, meetings)
+    world = [(name, rng.randint(*span)) for name, wait, show, span in people if span and rng.random() < 0.7]
+    looks = []
+    for number in range(rng.choice([0, 1, 2, 2, 3])):
+        look = (rng.randint(0, 12) * step + rng.randint(0, 2), rng.choice(names), True)
+        looks.append((look[0], look[1], not expected_broken(plan, [look], world)))
+    return plan, looks, [rng.randint(0, FAR), rng.randint(0, 12) * step]
+
+
+def telling_worlds(plan, looks, days):
+    """Return worlds of as many own days as can make a difference for the looks, the meetings and these days."""
+    near = {}
+    for name, wait, show, span in plan.people:
+        if span is not None:
+            marks = [day - wait for day, a, b in plan.meetings if name in (a, b)]
+            marks += [day - show for day, other, is_shown in looks if other == name]
+            marks += [day - later for day in days for later in (0, wait, show)] + list(span)
+            marks += [day for day, a, b in plan.meetings if name in (a, b)]
+            marks += [mark + 1 for mark in marks]
+            near[name] = sorted({mark for mark in marks if span[0] <= mark <= span[1]})
+    return worlds_of_days(plan, near)
+
+
+def eight_people(rng):
+    """Return a plan of eight people and sixteen meetings whose worlds are not too many to try, and its worlds."""
+    names = ["hal", "ann", "gus", "bob", "fay", "cyd", "eve", "dan"]
+    people = []
+    for number, name in enumerate(names):
+        first = rng.randint(0, 4)
+        people.append((name, rng.randint(1, 2), rng.randint(0, 3), (first, first + (number < 2))))
+    meetings = [(rng.randint(1, 10), *rng.sample(names, 2)) for number in range(16)]
+    plan = Plan(people, meetings)
+    return plan, all_worlds(plan)
 
 
 def moved(plan, looks, by):

@@ -8,11 +8,10 @@ from firstbore.errors import InvalidLooks, NoName, NoWorld
 from firstbore.looks import fits
 from firstbore.plans import Plan
 from samples import (
-    LOOKS, MORE, NAMES, NONE_FITS, all_worlds, example, expected_broken, expected_since, fitting_days, moved, no_names,
-    random_plan, tried_cases, tried_looks, worlds_of_days,
+    FAR, LOOKS, MORE, NAMES, NONE_FITS, all_worlds, example, expected_since, fitting_days, moved, no_names, random_plan,
+    telling_worlds, tried_cases, tried_looks, wide_case,
 )
 
-FAR = 10**18
 MOVE = 10**17
 
 
@@ -108,40 +107,11 @@ class Tried(unittest.TestCase):
             self.check(far_plan, far_looks, far_worlds, range(MOVE, MOVE + 17, 3))
 
     def test_spans_of_very_many_days(self):
-        # Whether something becomes so can only change at the days below, so these tell of all others.
+        # Whether something becomes so can only change at some days, so the worlds of these tell of all others.
         rng = random.Random(23)
         for number in range(60):
-            plan, looks, days = self.wide_case(rng)
-            near = {}
-            for name, wait, show, span in plan.people:
-                if span is not None:
-                    marks = [day - wait for day, a, b in plan.meetings if name in (a, b)]
-                    marks += [day - show for day, other, is_shown in looks if other == name]
-                    marks += [day - wait for day in days] + list(span)
-                    marks += [mark + 1 for mark in marks]
-                    near[name] = sorted({mark for mark in marks if span[0] <= mark <= span[1]})
-            self.check(plan, looks, worlds_of_days(plan, near), days)
-
-    def wide_case(self, rng):
-        """Return a plan with two spans of very many days, looks, and two days."""
-        step = FAR // 12
-        names = ["ann", "bob", "cyd", "dan"]
-        rng.shuffle(names)
-        people = []
-        for number, name in enumerate(names):
-            span = rng.choice([(0, FAR), (step, FAR), (0, 7 * step), (3 * step, 3 * step + 5)]) if number < 2 else None
-            people.append((name, rng.choice([1, 2, step, 2 * step + 1]), rng.choice([0, 1, step, 3 * step]), span))
-        meetings = []
-        for number in range(rng.randint(1, 5)):
-            a, b = rng.sample(names, 2)
-            meetings.append((rng.randint(1, 12) * step + rng.randint(-2, 2), a, b))
-        plan = Plan(people, meetings)
-        world = [(name, rng.randint(*span)) for name, wait, show, span in people if span and rng.random() < 0.7]
-        looks = []
-        for number in range(rng.choice([0, 1, 2, 2, 3])):
-            look = (rng.randint(0, 12) * step + rng.randint(0, 2), rng.choice(names), True)
-            looks.append((look[0], look[1], not expected_broken(plan, [look], world)))
-        return plan, looks, [rng.randint(0, FAR), rng.randint(0, 12) * step]
+            plan, looks, days = wide_case(rng)
+            self.check(plan, looks, telling_worlds(plan, looks, days), days)
 
 
 class Example(unittest.TestCase):

@@ -4,10 +4,13 @@ import doctest
 import pathlib
 import unittest
 
+from firstbore.cuts import least_cuts, ways_apart
 from firstbore.deciding import first_ones, greatest, since_possibly, since_surely, status
 from firstbore.looks import broken, fits
+from firstbore.origins import fewest, least_lots
 from firstbore.papers import paper, paper_holds
 from firstbore.plans import Plan
+from firstbore.traces import brings, needed
 from firstbore.worlds import able, chain, since
 from samples import LINES, MEETINGS, PEOPLE
 
@@ -49,6 +52,20 @@ class Examples(unittest.TestCase):
             paper_holds(plan, looks, "dan", 8, ((2, 5), 0)),
         )
         self.assertEqual(told, (((2, 5), 0), None, True))
+
+    def test_origins_and_traces(self):
+        plan, looks, more = self.plan, self.looks, self.more
+        told = least_lots(plan, looks), fewest(plan, more), needed(plan, looks), needed(plan, more)
+        self.assertEqual(told, ((("ann",), ("cyd",)), 1, (), (2,)))
+        told = brings(plan, looks), brings(plan, more)
+        self.assertEqual(
+            told, (((0, "bob"), (1, "cyd"), (2, "dan"), (3, "bob"), (3, "dan")), ((2, "dan"), (3, "bob")))
+        )
+
+    def test_cuts(self):
+        plan, world = self.plan, [("ann", 0), ("cyd", 4)]
+        told = least_cuts(plan, world, "dan", 9), ways_apart(plan, world, "dan", 9)
+        self.assertEqual(told, (((0, 2), (2, 3)), 2))
 
     def test_worlds(self):
         plan = self.plan

