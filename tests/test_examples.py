@@ -1,11 +1,14 @@
-"""The document's own examples that need only the modules that are there."""
+"""The document's own examples, as they stand there, and those of README.md."""
 
 import doctest
 import pathlib
 import unittest
 
+from firstbore.asking import results, settling
+from firstbore.comparing import never_sooner, sooner
 from firstbore.cuts import least_cuts, ways_apart
 from firstbore.deciding import first_ones, greatest, since_possibly, since_surely, status
+from firstbore.desk import Desk
 from firstbore.looks import broken, fits
 from firstbore.origins import fewest, least_lots
 from firstbore.papers import paper, paper_holds
@@ -66,6 +69,32 @@ class Examples(unittest.TestCase):
         plan, world = self.plan, [("ann", 0), ("cyd", 4)]
         told = least_cuts(plan, world, "dan", 9), ways_apart(plan, world, "dan", 9)
         self.assertEqual(told, (((0, 2), (2, 3)), 2))
+
+    def test_comparing(self):
+        plan = self.plan
+        told = (
+            never_sooner(plan.without([1]), plan), never_sooner(plan, plan.without([1])),
+            sooner(plan, plan.without([1]))[1],
+        )
+        self.assertEqual(told, (True, False, "cyd"))
+
+    def test_asking(self):
+        plan, looks = self.plan, self.looks
+        told = results(plan, looks, "bob", 5), results(plan, looks, "cyd", 5), settling(plan, looks, "bob", 3, [4, 5])
+        self.assertEqual(told, ((False, True), (False,), ((4, "ann"), (4, "bob"), (5, "bob"))))
+
+    def test_desk(self):
+        desk = Desk()
+        told = (
+            desk.say("plan " + str(self.plan).replace("\n", " ; ")), desk.say("look 9 dan yes"), desk.say("since dan"),
+            desk.say("first"), desk.say("look 6 ann no"), desk.say("first"),
+        )
+        self.assertEqual(told, ("4", "fits", "surely 8", "ann cyd", "fits", "ann cyd!"))
+        told = (
+            desk.say("since ann"), desk.say("status ann 6"), desk.say("look 9 cyd no"), desk.say("undo"),
+            desk.say("meet 7 ann dan"),
+        )
+        self.assertEqual(told, ("possibly 4", "open", "none", "undone", "5"))
 
     def test_worlds(self):
         plan = self.plan

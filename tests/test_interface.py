@@ -5,7 +5,9 @@ import inspect
 import pathlib
 import unittest
 
-from firstbore import cuts, deciding, errors, looks, origins, papers, plans, traces, worlds
+from firstbore import asking, comparing, cuts, deciding, errors, looks, origins, papers, plans, traces, worlds
+from firstbore.desk import Desk
+from firstbore.live import Live
 from firstbore.plans import Plan
 from samples import example
 
@@ -76,6 +78,36 @@ class Interface(unittest.TestCase):
         self.check_functions(
             cuts, ("least_cuts", "plan", "world", "name", "day"), ("ways_apart", "plan", "world", "name", "day")
         )
+
+    def test_comparing(self):
+        self.check_functions(comparing, ("never_sooner", "p", "q"), ("sooner", "p", "q"), ("alike", "p", "q"))
+
+    def test_asking(self):
+        self.check_functions(
+            asking, ("results", "plan", "looks", "name", "day"), ("settling", "plan", "looks", "name", "day", "days")
+        )
+
+    def test_live(self):
+        self.assertEqual(Live.__module__, "firstbore.live")
+        for name in ("__init__", "plan", "looks", "is_possible", "meet", "look", "several", "undo", "within", "__len__"):
+            self.assertIn(name, vars(Live))
+        for name in ("plan", "looks", "is_possible"):
+            self.assertIsInstance(vars(Live)[name], property)
+            self.assertRaises(AttributeError, setattr, Live(example()), name, None)
+        live = Live(example())
+        self.check_parameters(Live, "plan")
+        self.check_parameters(live.meet, "day", "a", "b")
+        self.check_parameters(live.look, "day", "name", "is_shown")
+        self.check_parameters(live.several, "looks")
+        self.check_parameters(live.undo)
+        self.check_parameters(live.within, "work")
+
+    def test_desk(self):
+        self.assertEqual(Desk.__module__, "firstbore.desk")
+        self.assertIn("say", vars(Desk))
+        self.assertIn("live", vars(Desk()))
+        self.check_parameters(Desk)
+        self.check_parameters(Desk().say, "command")
 
     def test_plan(self):
         self.assertEqual(Plan.__module__, "firstbore.plans")
