@@ -1,6 +1,7 @@
 """What follows for all worlds that fit some looks."""
 
 from firstbore.errors import NoWorld
+from firstbore.explaining import explanations
 from firstbore.looks import check_looks, unshown
 from firstbore.passages import spread
 from firstbore.starts import barred_by_looks, barred_further, own_behind, spread_behind
@@ -45,29 +46,26 @@ def bears_surely(plan, looks, barred, place, day):
     return unshown(plan, looks, spread_behind(plan, barred_further(plan, barred, place, day))) != []
 
 
-def last_day(plan):
-    """Return a day behind which nobody begins to bear it."""
-    meeting_days = [day for day, a, b in plan.meetings]
-    span_days = [person[3][1] for person in plan.people if person[3] is not None]
-    return max(meeting_days + span_days, default=0)
+def surely_by_look(plan, own, look, place):
+    """Return the earliest day by which all who alone can explain a look bring it to a person, None for none."""
+    days = []
+    for first, day in explanations(plan, own, look):
+        # A later own day does not bring it earlier, so the latest one that explains the look tells of all.
+        start = spread(plan.passages, [day if at == first else None for at in range(len(own))])[place]
+        if start is None:
+            return None
+        days.append(start)
+    return max(days)
 
 
 def since_surely(plan, looks, name):
     """Return the earliest day by which a person bears it in all worlds that fit, None if there is none."""
     place = plan.place(name)
-    barred = barred_if_possible(plan, looks)
-    low = 0
-    high = last_day(plan)
-    if not bears_surely(plan, looks, barred, place, high):
-        return None
-    # Halving, as a span may have too many days to try each: who bears it by a day bears it by later ones.
-    while low < high:
-        middle = (low + high) // 2
-        if bears_surely(plan, looks, barred, place, middle):
-            high = middle
-        else:
-            low = middle + 1
-    return low
+    own = own_behind(plan, barred_if_possible(plan, looks))
+    # If each look is explained by somebody who does not bring it to the person by a day, these together are a world
+    # that fits, in which the person does not bear it by then.
+    days = [surely_by_look(plan, own, look, place) for look in looks if look[2]]
+    return min([day for day in days if day is not None], default=None)
 
 
 def outcomes(plan, looks, barred, place, day):
